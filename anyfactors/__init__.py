@@ -1,0 +1,1 @@
+"""Anyfactors: what follows from readings when only the shape of equations is known."""
