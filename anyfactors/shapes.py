@@ -8,6 +8,12 @@ from anyfactors.naming import valid_name
 MOST = 8
 
 
+def is_integer(value):
+    """Tell whether any value is an integer."""
+    # Python takes True and False for integers; the program does not.
+    return isinstance(value, int) and not isinstance(value, bool)
+
+
 def all_sets(names):
     """List all sets of these names, short ones first."""
     found = [()]
@@ -24,6 +30,23 @@ def is_set(names, value):
     if not all([item in names for item in value]):
         return False
     return all([before < after for before, after in zip(value, value[1:])])
+
+
+def check_set(names, value):
+    """Raise an error if any value is not a set of these names."""
+    if not is_set(names, value):
+        raise BadSet(value)
+
+
+def check_unknown(names, name):
+    """Raise an error if the name is not one of these."""
+    if name not in names:
+        raise UnknownName(name)
+
+
+def is_row_number(rows, value):
+    """Tell whether any value is the number of one of these rows."""
+    return is_integer(value) and 0 <= value < len(rows)
 
 
 def _is_row(names, value):
@@ -117,24 +140,19 @@ class Shape:
         return "; ".join([" ".join(self._unknowns)] + [_row_text(row) for row in self._rows])
 
     def _check_number(self, value):
-        # True and False would pass as 1 and 0.
-        if not isinstance(value, int) or isinstance(value, bool) or value < 0 or value >= len(self._rows):
+        if not is_row_number(self._rows, value):
             raise BadNumber(value)
-
-    def _check_unknown(self, name):
-        if name not in self._unknowns:
-            raise UnknownName(name)
 
     def occurs(self, number, name):
         """Tell whether the unknown occurs in the row with this number."""
         self._check_number(number)
-        self._check_unknown(name)
+        check_unknown(self._unknowns, name)
         sure, perhaps = self._rows[number]
         return name in sure or name in perhaps
 
     def stands(self, name):
         """Return the numbers of the rows in which the unknown stands surely, and perhaps."""
-        self._check_unknown(name)
+        check_unknown(self._unknowns, name)
         surely = [number for number, row in enumerate(self._rows) if name in row[0]]
         perhaps = [number for number, row in enumerate(self._rows) if name in row[1]]
         return tuple(surely), tuple(perhaps)
@@ -150,8 +168,7 @@ class Shape:
 
     def without(self, wanted):
         """Return the shape without the unknowns of a set; all rows stay."""
-        if not is_set(self._unknowns, wanted):
-            raise BadSet(wanted)
+        check_set(self._unknowns, wanted)
         rows = [(_taken_out(sure, wanted), _taken_out(perhaps, wanted)) for sure, perhaps in self._rows]
         # The constructor refuses a shape to which no unknown is left.
         return Shape(_taken_out(self._unknowns, wanted), rows)
