@@ -3,7 +3,7 @@
 from math import gcd
 
 from anyfactors.errors import BadCount, BadFactors, BadNumber
-from anyfactors.shapes import check_set, check_unknown, is_integer
+from anyfactors.shapes import check_set, check_unknown, is_integer, names_without
 
 
 def fits(shape, factors):
@@ -51,13 +51,9 @@ def row_sums(shape, factors, values):
     ]
 
 
-def _factors_of(shape, factors, name):
+def factors_of(shape, factors, name):
     """List for each row its factor of the unknown, 0 where it does not occur."""
     return [factors.get((number, name), 0) for number in range(len(shape.rows))]
-
-
-def _unread(shape, readings):
-    return [name for name in shape.unknowns if name not in readings]
 
 
 def _shortened(numbers):
@@ -108,9 +104,9 @@ def hidden_with(shape, factors, readings, name):
     _check_question(shape, factors, readings, name)
     if name in readings:
         return None
-    unread = _unread(shape, readings)
+    unread = names_without(shape.unknowns, readings)
     # Each unread unknown is a line here, so that the integers of the lines are the values of the unknowns.
-    lines = [[*_factors_of(shape, factors, other), 1 if other == name else 0] for other in unread]
+    lines = [[*factors_of(shape, factors, other), 1 if other == name else 0] for other in unread]
     found = _combined(lines, len(shape.rows))
     if found is None:
         return None
@@ -125,8 +121,8 @@ def multipliers_with(shape, factors, readings, name):
     _check_question(shape, factors, readings, name)
     if name in readings:
         return [0 for _ in shape.rows]
-    others = [other for other in _unread(shape, readings) if other != name]
-    columns = [_factors_of(shape, factors, other) for other in [*others, name]]
+    others = names_without(shape.unknowns, (*readings, name))
+    columns = [factors_of(shape, factors, other) for other in [*others, name]]
     lines = [[column[number] for column in columns] for number in range(len(shape.rows))]
     return _combined(lines, len(others))
 
@@ -140,6 +136,6 @@ def rank_with(shape, factors, readings):
     """Return the rank of the rows, each taken as the list of its factors of the unread unknowns."""
     check_factors(shape, factors)
     check_set(shape.unknowns, readings)
-    lines = [_factors_of(shape, factors, name) for name in _unread(shape, readings)]
+    lines = [factors_of(shape, factors, name) for name in names_without(shape.unknowns, readings)]
     # The rank of the columns, one for each row, is that of the rows.
     return len(lines) - len(_left_over(lines, len(shape.rows)))

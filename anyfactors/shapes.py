@@ -32,6 +32,11 @@ def is_set(names, value):
     return all([before < after for before, after in zip(value, value[1:])])
 
 
+def names_without(names, others):
+    """Return those of the names that are not among the others, as a tuple."""
+    return tuple([name for name in names if name not in others])
+
+
 def check_set(names, value):
     """Raise an error if any value is not a set of these names."""
     if not is_set(names, value):
@@ -74,10 +79,6 @@ def _check_rows(names, rows):
     for row in rows:
         if not _is_row(names, row):
             raise BadRow(row)
-
-
-def _taken_out(names, wanted):
-    return tuple([name for name in names if name not in wanted])
 
 
 def _row_names(numbers):
@@ -169,9 +170,9 @@ class Shape:
     def without(self, wanted):
         """Return the shape without the unknowns of a set; all rows stay."""
         check_set(self._unknowns, wanted)
-        rows = [(_taken_out(sure, wanted), _taken_out(perhaps, wanted)) for sure, perhaps in self._rows]
+        rows = [(names_without(sure, wanted), names_without(perhaps, wanted)) for sure, perhaps in self._rows]
         # The constructor refuses a shape to which no unknown is left.
-        return Shape(_taken_out(self._unknowns, wanted), rows)
+        return Shape(names_without(self._unknowns, wanted), rows)
 
     def with_row(self, sure, perhaps):
         """Return the shape with one more row behind the others."""

@@ -7,7 +7,7 @@ from anyfactors.factors import check_factors, check_integers, check_keys
 from anyfactors.shapes import check_set, check_unknown, is_row_number
 
 
-def _found_by(row, known):
+def found_by(row, known):
     """List the unknown that a step finds by this row, if one does."""
     sure, perhaps = row
     new = [name for name in sure + perhaps if name not in known]
@@ -19,7 +19,7 @@ def _is_possible(shape, known, value):
     if not isinstance(value, tuple) or len(value) != 2:
         return False
     number, name = value
-    return is_row_number(shape.rows, number) and _found_by(shape.rows[number], known) == [name]
+    return is_row_number(shape.rows, number) and found_by(shape.rows[number], known) == [name]
 
 
 def check_steps(shape, readings, steps):
@@ -34,7 +34,7 @@ def check_steps(shape, readings, steps):
 
 
 def _possible_steps(shape, known):
-    return [(number, name) for number, row in enumerate(shape.rows) for name in _found_by(row, known)]
+    return [(number, name) for number, row in enumerate(shape.rows) for name in found_by(row, known)]
 
 
 def steps_from(shape, readings):
