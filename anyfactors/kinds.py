@@ -59,7 +59,7 @@ def _column(places, left, wanted):
 def mixed(shape, readings, weights):
     """Return factors and multipliers of 0 or 1 with which the rows add up to just these weights.
 
-    The weights are those of a sum that follows sometimes or always; its readings, like the others, have any factor.
+    These are the weights of a sum that does not follow never. What is read may add up to anything.
     """
     left = unstruck_rows(shape, readings, weights)
     factors = {}

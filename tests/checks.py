@@ -4,6 +4,7 @@ import copy
 import unittest
 
 from anyfactors.errors import FactorError
+from anyfactors.verdicts import Verdict
 
 HUGE = 10 ** 5000
 
@@ -53,5 +54,7 @@ class PromiseCase(unittest.TestCase):
             self.same(sorted(found, key=repr), sorted(wanted, key=repr))
             for key in wanted:
                 self.same(found[key], wanted[key])
+        elif isinstance(wanted, Verdict):
+            self.same((found.kinds, found.papers), (wanted.kinds, wanted.papers))
         else:
             self.assertTrue(found == wanted)
