@@ -14,7 +14,7 @@ from anyfactors.shapes import Shape, all_sets
 from anyfactors.steps import reached
 from checks import ANY_VALUES, HUGE, PromiseCase
 from plain import (
-    ORDER, column_sum, is_strike, left_by, plain_kinds, plain_reached, possible_strikes, rows_with, strikers_for,
+    ORDER, column_sum, is_strike, plain_kinds, plain_reached, possible_strikes, rows_with, strikers_for,
     strikes_in_order,
 )
 from samples import (

@@ -90,7 +90,8 @@ def questions(shape, readings):
         ("without", lambda: str(shape.without(readings))),
         ("occurs", lambda: [shape.occurs(0, name) for name in shape.unknowns]),
         ("with row", lambda: str(shape.with_row((), readings))), ("without row", lambda: str(shape.without_row(0))),
-        ("sets", lambda: all_sets(shape.unknowns)), ("equal", lambda: shape == other), ("sides", lambda: other == shape),
+        ("sets", lambda: all_sets(shape.unknowns)),
+        ("equal", lambda: shape == other), ("equal, too", lambda: other == shape),
         ("fits", lambda: fits(shape, factors)), ("sums", lambda: row_sums(shape, factors, zeros)),
         ("rank", lambda: rank_with(shape, factors, readings)),
         ("check steps", lambda: check_steps(shape, readings, steps_from(other, readings))),
@@ -185,7 +186,7 @@ def made_in_other_ways(shape):
 def renamed(shape):
     """The shape with r0, r1 and so on as its unknowns, so that it can be turned twice."""
     names = {name: f"r{at}" for at, name in enumerate(shape.unknowns)}
-    rows = [(tuple(names[name] for name in sure), tuple(names[name] for name in perhaps)) for sure, perhaps in shape.rows]
+    rows = [tuple(tuple(names[name] for name in part) for part in row) for row in shape.rows]
     return Shape(list(names.values()), rows)
 
 
